@@ -1,0 +1,1 @@
+"""Sealround: stamps of time by services that nobody trusts."""

@@ -1,0 +1,77 @@
+import ast
+import importlib
+import inspect
+import pathlib
+import unittest
+
+INTERFACE = {
+    "errors": {
+        "ThingError": ("reason",),
+        "WitnessError": ("reason",),
+        "NotebookError": ("reason",),
+        "ServiceError": ("reason",),
+        "PaperError": ("step", "reason"),
+        "TextError": ("line", "reason"),
+        "ChainError": ("link", "reason"),
+        "JournalError": ("deed", "reason"),
+    },
+    "digests": {
+        "Mixing": ("bound", "factor"),
+        "digest": ("mixing", "row"),
+        "is_clash": ("mixing", "one", "two"),
+    },
+    "things": {
+        "is_thing": ("row",),
+        "kind_of": ("row",),
+        "beacon": ("hour", "value"),
+        "document": ("cites", "body"),
+        "renewal": ("digest",),
+        "head": ("service", "number", "hour", "count", "root", "backs"),
+        "back_rounds": ("number",),
+        "way_back": ("start", "end"),
+    },
+    "trees": {
+        "root_of": ("mixing", "entries"),
+        "way_of": ("mixing", "entries", "index"),
+        "turns": ("count", "index"),
+        "climb": ("mixing", "count", "index", "entry", "way"),
+        "clash_of_ways": ("mixing", "count", "index", "one", "two"),
+        "clash_of_entries": ("mixing", "one", "two"),
+    },
+}
+# What ../shared/LANGUAGE.md lets a file of the package import beside the package itself.
+ALLOWED = ("__future__", "collections", "heapq", "itertools", "math")
+PACKAGE = pathlib.Path(__file__).resolve().parent.parent / "sealround"
+
+
+class InterfaceTest(unittest.TestCase):
+    def test_each_name_has_its_arguments(self):
+        for module, names in INTERFACE.items():
+            for name, arguments in names.items():
+                with self.subTest(module=module, name=name):
+                    made = getattr(importlib.import_module(f"sealround.{module}"), name)
+                    self.assertEqual(tuple(inspect.signature(made).parameters), arguments)
+
+    def test_each_name_is_defined_in_its_file(self):
+        for module, names in INTERFACE.items():
+            tree = ast.parse((PACKAGE / f"{module}.py").read_text("utf-8"))
+            kinds = (ast.FunctionDef, ast.ClassDef)
+            defined = [node.name for node in tree.body if isinstance(node, kinds)]
+            for name in names:
+                with self.subTest(module=module, name=name):
+                    self.assertEqual(defined.count(name), 1)
+
+
+class NothingOutsideTest(unittest.TestCase):
+    def test_the_package_imports_no_outside_package(self):
+        for file in sorted(PACKAGE.rglob("*.py")):
+            for node in ast.walk(ast.parse(file.read_text("utf-8"))):
+                with self.subTest(file=file.name):
+                    self.assertNotIsInstance(node, ast.Import)
+                    if isinstance(node, ast.ImportFrom):
+                        inside = node.module.startswith("sealround.")
+                        self.assertTrue(inside or node.module in ALLOWED, node.module)
+
+
+if __name__ == "__main__":
+    unittest.main()
