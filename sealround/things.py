@@ -79,7 +79,8 @@ def way_back(start, end):
     """The shortest way back from a round to an earlier one or to itself, both included."""
     rounds = [start]
     number = start
-    while number > end:
+    # Round 0 goes back to none: there the way stops, even if the end is below.
+    while number > max(end, 0):
         # All powers of two up to the greatest step divide the number, so the least round
         # that is not below the end is reached by the greatest of them that does not pass it.
         widest = 1 << ((number - end).bit_length() - 1)

@@ -219,6 +219,10 @@ class WayBackTest(unittest.TestCase):
         self.assertEqual(way_back(GREAT, 1), down)
         self.assertEqual(len(way_back(2 * GREAT - 1, 1)), 121)
 
+    def test_an_end_beyond_the_limits_raises_no_error(self):
+        self.assertEqual(way_back(5, 6), [5])
+        self.assertEqual(way_back(13, -1), [13, 12, 8, 0])
+
     def test_the_list_belongs_to_the_caller(self):
         way_back(13, 5).clear()
         self.assertEqual(way_back(13, 5), [13, 12, 8, 6, 5])
