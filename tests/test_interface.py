@@ -38,6 +38,37 @@ INTERFACE = {
         "clash_of_ways": ("mixing", "count", "index", "one", "two"),
         "clash_of_entries": ("mixing", "one", "two"),
     },
+    "links": {
+        "held_at": ("mixing", "row", "place"),
+        "holds": ("mixing", "row", "place", "digest"),
+        "is_link": ("mixing", "before", "row", "place"),
+    },
+    "papers": {
+        "Paper": ("first", "steps"),
+        "check": ("mixing", "paper"),
+        "is_accepted": ("mixing", "paper"),
+        "rows_of": ("paper",),
+        "joined": ("one", "two"),
+        "paper_row": ("paper",),
+    },
+    "written": {
+        "written": ("paper",),
+        "paper_of": ("text",),
+    },
+    "libraries": {
+        "Library": ("mixing",),
+    },
+}
+METHODS = {
+    ("libraries", "Library"): {
+        "put": ("row", "entries"),
+        "row_of": ("digest",),
+        "entries_of": ("digest",),
+        "rows": (),
+        "gaps": (),
+        "is_closed": (),
+        "path": ("start", "end"),
+    },
 }
 # What ../shared/LANGUAGE.md lets a file of the package import beside the package itself.
 ALLOWED = ("__future__", "collections", "heapq", "itertools", "math")
@@ -60,6 +91,21 @@ class InterfaceTest(unittest.TestCase):
             for name in names:
                 with self.subTest(module=module, name=name):
                     self.assertEqual(defined.count(name), 1)
+
+    def test_each_method_has_its_arguments(self):
+        for (module, name), methods in METHODS.items():
+            made = getattr(importlib.import_module(f"sealround.{module}"), name)
+            for method, arguments in methods.items():
+                with self.subTest(name=name, method=method):
+                    found = tuple(inspect.signature(getattr(made, method)).parameters)
+                    self.assertEqual(found, ("self", *arguments))
+
+    def test_each_method_is_defined_in_its_class(self):
+        for (module, name), methods in METHODS.items():
+            made = getattr(importlib.import_module(f"sealround.{module}"), name)
+            for method in methods:
+                with self.subTest(name=name, method=method):
+                    self.assertIn(method, vars(made))
 
 
 class NothingOutsideTest(unittest.TestCase):
