@@ -91,9 +91,9 @@ def _place_of(parts):
 
 
 def _row_of(parts):
-    """The row that these parts of a line tell, at least one number; otherwise None."""
+    """The row that these parts of a line tell, also one without numbers; None if one is none."""
     numbers = _numbers_of(parts)
-    return tuple(numbers) if numbers else None
+    return None if numbers is None else tuple(numbers)
 
 
 def _numbers_of(parts):

@@ -9,9 +9,9 @@ from sealround.written import paper_of, written
 
 GREAT = 2 ** 70
 NUMBER = "(?:0|[1-9][0-9]{0,3999})"
-FIRST_LINE = re.compile(f"first(?: {NUMBER})+")
-PLAIN_LINE = re.compile(f"(?:cite|back) {NUMBER} row(?: {NUMBER})+")
-ENTRY_LINE = re.compile(f"entry {NUMBER} ({NUMBER})((?: {NUMBER})*) row(?: {NUMBER})+")
+FIRST_LINE = re.compile(f"first(?: {NUMBER})*")
+PLAIN_LINE = re.compile(f"(?:cite|back) {NUMBER} row(?: {NUMBER})*")
+ENTRY_LINE = re.compile(f"entry {NUMBER} ({NUMBER})((?: {NUMBER})*) row(?: {NUMBER})*")
 
 PAPER = Paper(
     (1, 30, 40),
@@ -35,12 +35,12 @@ LINES = [
 
 def plain_written(paper):
     """The written form, line by line."""
-    text = "first " + " ".join(map(str, paper.first))
+    text = "first" + "".join(f" {number}" for number in paper.first)
     for row, (word, index, *way) in paper.steps:
         text += f"\n{word} {index}"
         for numbers in way:
             text += f" {len(numbers)}" + "".join(f" {number}" for number in numbers)
-        text += " row " + " ".join(map(str, row))
+        text += " row" + "".join(f" {number}" for number in row)
     return text
 
 
@@ -116,18 +116,18 @@ class WrittenTest(WrittenCase):
     def test_papers_by_chance(self):
         chance = random.Random(1)
 
-        def numbers(least):
+        def numbers():
             sizes = (1, 3, 64, 200, 250, 3000)
             return tuple(chance.getrandbits(chance.choice(sizes))
-                         for _ in range(chance.randrange(least, 6)))
+                         for _ in range(chance.randrange(6)))
 
         for _ in range(300):
             steps = []
             for _ in range(chance.randrange(6)):
                 index = chance.getrandbits(chance.choice((1, 3, 80)))
-                places = (("cite", index), ("back", index), ("entry", index, numbers(0)))
-                steps.append((numbers(1), chance.choice(places)))
-            paper = Paper(numbers(1), steps)
+                places = (("cite", index), ("back", index), ("entry", index, numbers()))
+                steps.append((numbers(), chance.choice(places)))
+            paper = Paper(numbers(), steps)
             self.read_again(paper, plain_written(paper))
 
     def test_the_paper_stays_as_it_was(self):
@@ -146,8 +146,45 @@ class WrittenTest(WrittenCase):
             self.assertEqual([type(step), type(row), type(place)], [tuple] * 3)
         self.assertIs(type(paper.steps[1][1][2]), tuple)
 
-    def test_an_empty_row_raises_no_error(self):
-        self.assertIs(type(written(Paper((), [((), ("cite", 0))]))), str)
+
+class EmptyRowsTest(WrittenCase):
+    PLACES = {
+        "cite 0": ("cite", 0),
+        "back 3": ("back", 3),
+        "entry 0 0": ("entry", 0, ()),
+        "entry 1 2 5 6": ("entry", 1, (5, 6)),
+    }
+
+    def test_the_first_row(self):
+        self.read_again(Paper((), []), "first")
+        for line, place in self.PLACES.items():
+            self.read_again(Paper((), [((2, 1, 7), place)]), f"first\n{line} row 2 1 7")
+
+    def test_the_row_of_a_step(self):
+        for line, place in self.PLACES.items():
+            self.read_again(Paper((2, 0), [((), place)]), f"first 2 0\n{line} row")
+            self.read_again(Paper((), [((), place)]), f"first\n{line} row")
+            paper = Paper((), [((), place), ((0,), ("cite", 9)), ((), place)])
+            self.read_again(paper, f"first\n{line} row\ncite 9 row 0\n{line} row")
+
+    def test_an_empty_row_is_a_tuple(self):
+        paper = paper_of("first\ncite 0 row")
+        self.assertEqual([type(paper.first), type(paper.steps[0][0])], [tuple] * 2)
+
+    def test_a_space_without_a_number_behind_it(self):
+        self.refused(1, "first ")
+        self.refused(1, "first  ")
+        for line in self.PLACES:
+            self.refused(2, f"first\n{line} row ")
+            self.refused(2, f"first\n{line}  row")
+            self.refused(1, f"first \n{line} row")
+
+    def test_the_line_behind_an_empty_row_counts(self):
+        self.refused(2, "first\n 2 0")
+        self.refused(2, "first\n1")
+        self.refused(2, "first\n")
+        self.refused(3, "first\ncite 0 row\n2 0")
+        self.refused(3, "first 2 0\ncite 0 row\n")
 
 
 class PaperOfTest(WrittenCase):
@@ -160,7 +197,7 @@ class PaperOfTest(WrittenCase):
         self.same(paper_of(text), expected)
 
     def test_texts_of_one_line(self):
-        for text in ("", " ", "first", "first ", " first", "first  1", "first 1 ", " first 1",
+        for text in ("", " ", "row", " first", "first  1", "first 1 ", " first 1",
                      "first 1  2", "first 01", "first 00", "first 1 02", "first -1", "first +1",
                      "first 1.0", "first 1_0", "first 0x1", "first 1e3", "first one", "first1",
                      "First 1", "FIRST 1", "firs 1", "firsts 1", "last 1", "1 2 3", "row 1 2 3",
@@ -171,7 +208,7 @@ class PaperOfTest(WrittenCase):
                 self.refused(1, text)
 
     def test_steps(self):
-        for line in ("", " ", "cite", "cite 0", "cite 0 ", "cite 0 row", "cite 0 row ",
+        for line in ("", " ", "cite", "cite 0", "cite 0 ", "cite row", "cite 0 row ",
                      "cite row 2 0", "cite 0 2 0", "cite 0 0 row 2 0", "cite 0 1 row 2 0",
                      "cite  0 row 2 0", "cite 0  row 2 0", "cite 0 row  2 0", "cite 0 row 2  0",
                      "cite 0 row 2 0 ", " cite 0 row 2 0", "cite 00 row 2 0", "cite 01 row 2 0",
@@ -180,12 +217,12 @@ class PaperOfTest(WrittenCase):
                      "cite -1 row 2 0", "cite 0 row 2 -0", "cite 0 row 2 x", "cite 0 ROW 2 0",
                      "Cite 0 row 2 0", "cites 0 row 2 0", "quote 0 row 2 0", "0 row 2 0", "row 2 0",
                      "row", "row row 2 0", " row 2 0", "2 0", "0 0 row 2 0", "first 2 0", "first 1",
-                     "first 0 row 2 0", "back", "back 0", "back 0 row", "back row 4", "back 0 4",
+                     "first 0 row 2 0", "back", "back 0", "back 0 ro", "back row 4", "back 0 4",
                      "back 0 1 row 4", "back 0 0 row 4", "back 00 row 4", "back 0 row 4 ",
-                     "entry", "entry 0", "entry 0 0", "entry 0 0 row", "entry 0 row 4", "entry row 4",
+                     "entry", "entry 0", "entry 0 0", "entry 0 row", "entry 0 row 4", "entry row 4",
                      "entry 0 0 0 row 4", "entry 0 1 row 4", "entry 0 1 5 6 row 4",
                      "entry 0 2 5 row 4", "entry 0 2 5 6 7 row 4", "entry 0 3 5 6 row 4",
-                     "entry 0 2 5 6 4", "entry 0 2 5 6 row", "entry 0 02 5 6 row 4",
+                     "entry 0 2 5 6 4", "entry 0 2 5 row", "entry 0 02 5 6 row 4",
                      "entry 00 2 5 6 row 4", "entry 0 2 05 6 row 4", "entry 0 2 5 06 row 4",
                      "entry 0 2  5 6 row 4", "entry 0 2 5  6 row 4", "entry 0 2 5 6  row 4",
                      "entry 0 0  row 4", "entry 0  0 row 4", "entry 0 1 row row 4",
@@ -213,7 +250,6 @@ class PaperOfTest(WrittenCase):
         self.refused(3, "first 1\ncite 0 row 2 0\n\nback 0 row 4")
         self.refused(7, "\n".join(LINES) + "\n")
         self.refused(2, "first 1\ncite 0\nrow 2 0")
-        self.refused(1, "first\n1")
 
     def test_numbers_of_4000_and_4001_digits(self):
         for digit in "19":
@@ -244,7 +280,7 @@ class PaperOfTest(WrittenCase):
         self.refused(2, "first 1\nentry 0 " + "1" * 4000 + " row 2 0")
 
     def test_the_first_wrong_line_counts(self):
-        wrong = ["first 01", "cite 1 row", "entry 1 3 20 10 row 4", "back row 4", "entry 0 row 4", ""]
+        wrong = ["first 01", "cite 1 row ", "entry 1 3 20 10 row 4", "back row 4", "entry 0 row 4", ""]
         for low, high in itertools.combinations_with_replacement(range(6), 2):
             lines = list(LINES)
             lines[low], lines[high] = wrong[low], wrong[high]
