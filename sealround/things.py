@@ -34,6 +34,11 @@ def _is_head(row):
     return count >= 1 and len(row) - 6 == _back_count(number)
 
 
+def is_thing_of(row, kind):
+    """Whether the row is a thing of this kind."""
+    return is_thing(row) and kind_of(row) == kind
+
+
 def kind_of(row):
     """The kind of a thing."""
     return row[0]

@@ -58,6 +58,20 @@ INTERFACE = {
     "libraries": {
         "Library": ("mixing",),
     },
+    "traces": {
+        "trace": ("library", "paper"),
+    },
+    "quarrels": {
+        "evidence": ("mixing", "one", "two"),
+    },
+    "witnesses": {
+        "Witness": ("mixing", "slack"),
+    },
+    "judges": {
+        "confirmed": ("books", "needed", "service", "number", "digest"),
+        "both": ("books", "service", "number", "one", "two"),
+        "is_orderly": ("book",),
+    },
 }
 METHODS = {
     ("libraries", "Library"): {
@@ -68,6 +82,11 @@ METHODS = {
         "gaps": (),
         "is_closed": (),
         "path": ("start", "end"),
+    },
+    ("witnesses", "Witness"): {
+        "sign": ("row", "paper", "hour"),
+        "book": (),
+        "last": ("service",),
     },
 }
 # What ../shared/LANGUAGE.md lets a file of the package import beside the package itself.

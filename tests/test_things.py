@@ -7,6 +7,7 @@ from sealround.things import (
     document,
     head,
     is_thing,
+    is_thing_of,
     kind_of,
     renewal,
     way_back,
@@ -92,6 +93,15 @@ class IsThingTest(unittest.TestCase):
             self.are_none((kind, 9, 1, 5, 1, 77, 11), (kind, 2, 7, 8))
         for kind in (0, 3, 4, 5, 6):
             self.are_none((kind, 8, 5))
+
+    def test_things_of_one_kind(self):
+        rows = ((1, 8, 5), (2, 1, 7), (4, 9, 0, 5, 1, 77), (5, 3))
+        for kind in range(7):
+            for row in rows:
+                self.assertIs(is_thing_of(row, kind), row[0] == kind)
+                self.assertIs(is_thing_of(row[:1], kind), False)
+            self.assertIs(is_thing_of((), kind), False)
+            self.assertIs(is_thing_of((3, 1, 2), kind), False)
 
 
 class MakingTest(unittest.TestCase):
