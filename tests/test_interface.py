@@ -72,6 +72,21 @@ INTERFACE = {
         "both": ("books", "service", "number", "one", "two"),
         "is_orderly": ("book",),
     },
+    "notebooks": {
+        "Notebook": ("mixing",),
+        "window": ("notebook", "row", "papers"),
+        "foretold": ("notebook", "row", "papers"),
+    },
+    "renewals": {
+        "chain_row": ("chain",),
+        "standing": ("notebooks", "breaks", "chain", "now"),
+    },
+    "services": {
+        "Service": ("name", "mixing"),
+    },
+    "journals": {
+        "mended": ("name", "mixing", "journal"),
+    },
 }
 METHODS = {
     ("libraries", "Library"): {
@@ -87,6 +102,21 @@ METHODS = {
         "sign": ("row", "paper", "hour"),
         "book": (),
         "last": ("service",),
+    },
+    ("notebooks", "Notebook"): {
+        "note": ("row",),
+        "see": ("row", "hour"),
+        "seen": ("row",),
+    },
+    ("services", "Service"): {
+        "enter": ("digest",),
+        "close": ("hour",),
+        "rounds": (),
+        "head": ("number",),
+        "entries": ("number",),
+        "stamp": ("row", "number", "index"),
+        "back": ("start", "end"),
+        "journal": (),
     },
 }
 # What ../shared/LANGUAGE.md lets a file of the package import beside the package itself.

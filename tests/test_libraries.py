@@ -7,22 +7,10 @@ from sealround.libraries import Library
 from sealround.things import beacon, document, head, renewal
 from tests.plain import PRIME, plain_digest, plain_nodes, plain_root
 from tests.plain_papers import plain_is_thing, plain_places
+from tests.wide import BOUND, FACTOR, WIDE, head_of, told
 from tests.worlds import World
 
-BOUND = 2 ** 64
-FACTOR = 1234567
-WIDE = Mixing(BOUND, FACTOR)
 GREAT = 2 ** 70
-
-
-def told(row):
-    return plain_digest(BOUND, FACTOR, row)
-
-
-def head_of(entries, service=9, number=0, hour=50, backs=()):
-    """A head with the root of these entries, under the wide bound."""
-    root = plain_root(BOUND, FACTOR, entries)
-    return head(service, number, hour, len(entries), root, list(backs))
 
 
 class PlainLibrary:

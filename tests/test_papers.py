@@ -3,18 +3,16 @@ import itertools
 import random
 import unittest
 
-from sealround.digests import Mixing, digest
+from sealround.digests import Mixing
 from sealround.errors import PaperError
 from sealround.papers import Paper, check, is_accepted, joined, paper_row, rows_of
 from sealround.things import beacon, document, head, renewal
 from sealround.trees import root_of, way_of
 from tests.plain import plain_back_rounds, plain_climb, plain_digest
 from tests.plain_papers import plain_fault, plain_paper_row, plain_sides
+from tests.wide import BOUND, FACTOR, WIDE, told
 from tests.worlds import World
 
-BOUND = 2 ** 64
-FACTOR = 1234567
-WIDE = Mixing(BOUND, FACTOR)
 GREAT = 2 ** 70
 
 NOT_A_THING = "not a thing"
@@ -22,10 +20,6 @@ NO_SUCH_PLACE = "no such place"
 NOT_THIS_DIGEST = "not this digest"
 ANOTHER_ROUND = "another round"
 REASONS = (NOT_A_THING, NO_SUCH_PLACE, NOT_THIS_DIGEST, ANOTHER_ROUND)
-
-
-def told(row):
-    return plain_digest(BOUND, FACTOR, row)
 
 
 # A paper that goes through each kind of thing and each kind of place.

@@ -7,20 +7,8 @@ from sealround.papers import Paper, check, is_accepted, rows_of
 from sealround.things import beacon, document, head, renewal, way_back
 from tests.plain import PRIME, plain_back_rounds, plain_digest, plain_root
 from tests.plain_papers import plain_link, plain_places
+from tests.wide import BOUND, FACTOR, WIDE, cite, told
 from tests.worlds import World
-
-BOUND = 2 ** 64
-FACTOR = 1234567
-WIDE = Mixing(BOUND, FACTOR)
-
-
-def told(row):
-    return plain_digest(BOUND, FACTOR, row)
-
-
-def cite(*rows, body=()):
-    """A document that cites these rows."""
-    return document([told(row) for row in rows], list(body))
 
 
 def all_links(bound, factor, things):

@@ -9,26 +9,9 @@ from sealround.things import beacon, document, head
 from tests.made_up import climbing_ways, other_places
 from tests.plain import PRIME, plain_climb, plain_digest, plain_root
 from tests.plain_checks import plain_differing_nodes, plain_evidence, plain_own_way
-from tests.plain_papers import plain_link, plain_places, plain_sides
+from tests.plain_papers import plain_sides
+from tests.wide import BOUND, FACTOR, cite, head_of, told
 from tests.worlds import World
-
-BOUND = 2 ** 64
-FACTOR = 1234567
-WIDE = Mixing(BOUND, FACTOR)
-
-
-def told(row):
-    return plain_digest(BOUND, FACTOR, row)
-
-
-def cite(*rows, body=()):
-    """A document that cites these rows."""
-    return document([told(row) for row in rows], list(body))
-
-
-def head_of(entries, number=0, hour=50, backs=()):
-    root = plain_root(BOUND, FACTOR, entries)
-    return head(9, number, hour, len(entries), root, list(backs))
 
 
 class QuarrelCase(unittest.TestCase):
@@ -134,7 +117,7 @@ class ByHandTest(QuarrelCase):
         for one, two in itertools.permutations(rows, 2):
             expected = ("fork", 9, 0, told(one), told(two))
             self.assertEqual(self.told_of((one, []), (two, [])), expected)
-        others = [(4, 8, *rows[0][2:]), head_of([70], 1, 50, [7]), (2, 0), (4, 9, 1, 50, 1, 70, 8)]
+        others = [(4, 8, *rows[0][2:]), head_of([70], number=1, backs=[7]), (2, 0), (4, 9, 1, 50, 1, 70, 8)]
         for other in others:
             self.assertIsNone(self.told_of((rows[0], []), (other, [])))
         expected = ("fork", 9, 1, told(others[1]), told(others[3]))
@@ -155,7 +138,7 @@ class ByHandTest(QuarrelCase):
         heads = {}
         for past in range(2):
             zero = head_of([70 + past])
-            heads[past] = [zero, head_of([70], 1, 60, [told(zero)])]
+            heads[past] = [zero, head_of([70], number=1, hour=60, backs=[told(zero)])]
         papers = [(zero, [(one, ("back", 0))]) for zero, one in heads.values()]
         expected = ("fork", 9, 0, told(heads[0][0]), told(heads[1][0]))
         self.assertEqual(self.told_of(*papers), expected)
@@ -307,8 +290,8 @@ class OneHeadTest(QuarrelCase):
         return found
 
     def check_pair(self, bound, factor, one, two):
-        first, row, index, shown = one
-        other, _, other_index, other_shown = two
+        _, row, index, shown = one
+        _, _, other_index, other_shown = two
         papers = [(start, [(row, ("entry", at, pair[1]))])
                   for start, _, at, pair in (one, two)]
         found = self.check(bound, factor, *papers)
@@ -352,24 +335,13 @@ class ForkedWorld(World):
 
 
 class ChanceTest(QuarrelCase):
-    def links_of(self, world, things):
-        """The links between these things alone, by the row before."""
-        found = {row: [] for row, _ in things}
-        for row, entries in things:
-            for place, held in plain_places(world.bound, world.factor, row, entries):
-                for before in found:
-                    if held == world.digest(before):
-                        if plain_link(world.bound, world.factor, before, row, place):
-                            found[before].append((row, place))
-        return found
-
     def with_other_ways(self, world, first, steps):
         """The paper with other ways at some entries, under a small bound."""
         rows = [first] + [row for row, _ in steps]
         changed = []
         for before, (row, place) in zip(rows, steps):
             if place[0] == "entry" and world.bound < 50 and world.chance.random() < 0.5:
-                for (word, index, way), held in other_places(world, row, place[1]):
+                for (word, index, way), _ in other_places(world, row, place[1]):
                     sides = plain_sides(row[4], index)
                     mark = world.digest(before)
                     if plain_climb(world.bound, world.factor, sides, mark, way)[1] == row[5]:
@@ -378,7 +350,7 @@ class ChanceTest(QuarrelCase):
         return first, changed
 
     def check_world(self, world, things, many, met):
-        links = self.links_of(world, things)
+        links = world.links_among(things)
         for _ in range(many):
             papers = [self.with_other_ways(world, *world.walk(links, world.chance.randrange(9)))
                       for _ in range(2)]

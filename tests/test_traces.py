@@ -10,21 +10,10 @@ from sealround.traces import trace
 from tests.made_up import climbing_ways, made_up_document, paper_to
 from tests.plain import PRIME, plain_digest, plain_root
 from tests.plain_checks import plain_differing_nodes, plain_own_way, plain_trace
+from tests.wide import BOUND, FACTOR, WIDE, head_of, told
 from tests.worlds import World
 
-BOUND = 2 ** 64
-FACTOR = 1234567
-WIDE = Mixing(BOUND, FACTOR)
 KNOWN = ("known",)
-
-
-def told(row):
-    return plain_digest(BOUND, FACTOR, row)
-
-
-def head_of(entries, number=0, hour=50, backs=()):
-    root = plain_root(BOUND, FACTOR, entries)
-    return head(9, number, hour, len(entries), root, list(backs))
 
 
 def library_of(things, mixing=WIDE):
@@ -46,7 +35,7 @@ STONE = beacon(3, 4)
 LETTER = document([77, told(STONE)], [1, 2])
 ENTRIES = [70, told(LETTER), 71]
 ROUND_0 = head_of(ENTRIES)
-ROUND_1 = head_of([told(STONE)], 1, 51, [told(ROUND_0)])
+ROUND_1 = head_of([told(STONE)], number=1, hour=51, backs=[told(ROUND_0)])
 WAY = plain_own_way(BOUND, FACTOR, ENTRIES, 1)
 STEPS = [(LETTER, ("cite", 1)), (ROUND_0, ("entry", 1, WAY)), (ROUND_1, ("back", 0))]
 THINGS = [(STONE, []), (LETTER, []), (ROUND_0, ENTRIES), (ROUND_1, [told(STONE)])]

@@ -12,20 +12,14 @@ from sealround.witnesses import Witness
 from tests.pasts import Past
 from tests.plain import plain_digest
 from tests.plain_papers import plain_fault, plain_is_thing
+from tests.wide import BOUND, FACTOR, WIDE, told
 
-BOUND = 2 ** 64
-FACTOR = 1234567
-WIDE = Mixing(BOUND, FACTOR)
 GREAT = 2 ** 70
 
 NOT_A_HEAD = "not a head"
 HOUR = "hour"
 NOT_LATER = "not later"
 NO_PAPER = "no paper"
-
-
-def told(row):
-    return plain_digest(BOUND, FACTOR, row)
 
 
 def past_of(service, hours, bound=BOUND, factor=FACTOR):

@@ -65,8 +65,12 @@ class World:
 
     def links(self):
         """All links between the things: a dict from the row before to its pairs (row, place)."""
-        found = {row: [] for row, _ in self.things}
-        for row, entries in self.things:
+        return self.links_among(self.things)
+
+    def links_among(self, things):
+        """The links between some things alone."""
+        found = {row: [] for row, _ in things}
+        for row, entries in things:
             for place, held in plain_places(self.bound, self.factor, row, entries):
                 for before in found:
                     if held == self.digest(before):
